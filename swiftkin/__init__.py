@@ -1,0 +1,1 @@
+"""Swiftkin: kinds of many elders, looked up plainly and by what is remembered."""

@@ -17,6 +17,15 @@ def is_name(thing):
     return 1 <= len(thing) <= 8 and all(["a" <= sign <= "z" for sign in thing])
 
 
+def is_just(one, other):
+    """Tell whether these are alike in each part, a truth being no number and a list no tuple."""
+    if isinstance(one, (list, tuple)) and isinstance(other, (list, tuple)):
+        if isinstance(one, list) != isinstance(other, list) or len(one) != len(other):
+            return False
+        return all([is_just(part, like) for part, like in zip(one, other)])
+    return isinstance(one, bool) == isinstance(other, bool) and one == other
+
+
 def is_plain(thing):
     """Tell whether this is a plain worth."""
     if _has_form(thing, "none", 1) or _has_form(thing, "not", 1):

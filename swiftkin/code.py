@@ -195,5 +195,5 @@ def _heights_at_end(code, way):
     for one, other in zip(way, way[1:]):
         free = [height for height in heights if not _is_stuck(code, one, height)]
         led = [pair for height in free for pair in _led_to(code, one, height)]
-        heights = sorted({then for behind, then in led if behind == other})
+        heights = [height for height in range(MOST_HEIGHT + 1) if (other, height) in led]
     return heights

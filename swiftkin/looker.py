@@ -20,7 +20,7 @@ class Looker:
     def in_thing(self, n, word):
         """Tell the worth of a thing's own word, or None."""
         self.many += 1
-        return self._world.own_worth(n, word)
+        return dict(self._world.own(n)).get(word)
 
     def _first(self, kinds, word):
         """Tell the first of these kinds that has a word, looking no further."""

@@ -188,11 +188,6 @@ class World:
                 return (kind, self._tables[kind][word])
         return None
 
-    def own_worth(self, n, word):
-        """Tell the worth of a thing's own word, or None."""
-        self._need_thing(n)
-        return self._things[n][1].get(word)
-
     def is_kind(self, name):
         """Tell whether this is the name of a kind."""
         return is_name(name) and name in self._elders

@@ -132,7 +132,8 @@ class Writer:
         self.steps(height, depth - 1)
         back = self.source.random() < 0.2
         if back:
-            self.row("jump", unless - 1 if self.rows[unless - 1][0] in ("push", "get", "kind", "deed") else len(self.rows) + 1)
+            short = self.rows[unless - 1][0] in ("push", "get", "kind", "deed")
+            self.row("jump", unless - 1 if short else len(self.rows) + 1)
         self.rows[unless] = ("unless", len(self.rows))
 
     def guard(self, height, depth):
@@ -188,7 +189,8 @@ def draw_changes(source):
     changes = []
     for deed in DEEDS:
         takes = tuple(LOCALS[:source.choice([1, 2, 2, 2, 2, 3])])
-        worths = tuple(source.choice(PLAIN) for _ in range(source.choice([0, len(takes) - 1, len(takes) - 1, len(takes)])))
+        many = source.choice([0, len(takes) - 1, len(takes) - 1, len(takes)])
+        worths = tuple(source.choice(PLAIN) for _ in range(many))
         changes.append(("deed", deed, draw_code(source), takes, worths))
     changes += [("kind", "top", ()), ("kind", "left", ("top",)), ("kind", "right", ("top",)),
                 ("kind", "low", ("left", "right")), ("kind", "other", ())]

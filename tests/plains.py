@@ -102,3 +102,15 @@ class Case(unittest.TestCase):
             else:
                 self.falls(word, (("do", at),) + within, at + 1 + steps, "do", arguments, looks, changes)
         self.world = world
+
+
+class Kin(Case):
+    """A world of kinds top, low below it, and other, with a thing of low, and a deed me that gives what it takes."""
+
+    def setUp(self):
+        super().setUp()
+        self.world.kind("top")
+        self.world.kind("low", elders=("top",))
+        self.world.kind("other")
+        self.world.thing("low")
+        self.deed("me", ("get", "it"), takes=("it",))

@@ -93,7 +93,8 @@ class Bad(Case):
 
     def test_a_part_less_or_more(self):
         for row in EACH:
-            for bent in [row[:-1], row + (0,), row + ("aa",), row + row[-1:], row + (None,), row * 2, list(row), (row,)]:
+            for bent in [row[:-1], row + (0,), row + ("aa",), row + row[-1:], row + (None,), row * 2, list(row),
+                         (row,)]:
                 self.bad(((bent,) + GIVE, ()), 0)
                 self.bad((GIVE + (bent,), ()), 2)
 
@@ -341,7 +342,8 @@ class Drawn(Case):
         guards = []
         for _ in range(source.choice([0, 0, 1, 1, 2, 3])):
             first = source.randrange(many)
-            guards.append((first, source.randrange(first, many) + 1, source.randrange(many), source.choice([0, 0, 0, 1, 2])))
+            last = source.randrange(first, many) + 1
+            guards.append((first, last, source.randrange(many), source.choice([0, 0, 0, 1, 2])))
         return (tuple(rows), tuple(guards))
 
     def test_drawn_codes(self):

@@ -4,7 +4,7 @@ import itertools
 import unittest
 
 from drawn import NOT_NAMES, NOT_WORTHS
-from plains import NO, NONE, NOT, YES, Case, giving, number, push, text, thing
+from plains import NO, NONE, NOT, YES, Case, Kin, giving, number, push, text, thing
 from swiftkin import plain as module
 from swiftkin.errors import KinError, NoDeed, NoSteps, NoWorth
 from swiftkin.plain import Plain
@@ -13,20 +13,7 @@ from worlds import snapshot
 ME = ("get", "it")
 
 
-class Calls(Case):
-    """A world of kinds top, low below it, and other, with a thing of low."""
-
-    def setUp(self):
-        super().setUp()
-        world = self.world
-        world.kind("top")
-        world.kind("low", elders=("top",))
-        world.kind("other")
-        world.thing("low")
-        self.deed("me", ME, takes=("it",))
-
-
-class Interface(Calls):
+class Interface(Kin):
     def test_methods_of_the_class_itself(self):
         self.assertIn("run", vars(Plain))
         self.assertIn("looks", vars(Plain))
@@ -48,7 +35,7 @@ class Interface(Calls):
         self.assertEqual(Plain(self.world).run("none", most=1), (("tired", (("none", 1),)), 1))
 
 
-class Refused(Calls):
+class Refused(Kin):
     def refused(self, refusal, *parts, **more):
         before = snapshot(self.world)
         machine = Plain(self.world)
@@ -65,8 +52,8 @@ class Refused(Calls):
 
     def test_no_worths(self):
         self.world.put("low", "word", ("deed", "me"))
-        for worth in NOT_WORTHS + [("thing", 1), ("kind", "zz"), ("deed", "zz"), ("gate", "me", "zz"), ("gate", "zz", None),
-                                   ("bound", "zz", "low", NONE), ("bound", "me", "zz", NONE),
+        for worth in NOT_WORTHS + [("thing", 1), ("kind", "zz"), ("deed", "zz"), ("gate", "me", "zz"),
+                                   ("gate", "zz", None), ("bound", "zz", "low", NONE), ("bound", "me", "zz", NONE),
                                    ("bound", "me", "low", ("thing", 7))]:
             self.refused(NoWorth, "me", (worth,))
             self.refused(NoWorth, "me", (NONE, worth))
@@ -87,7 +74,7 @@ class Refused(Calls):
             self.refused(NoSteps, "me", (), most=most)
 
 
-class Runs(Calls):
+class Runs(Kin):
     def test_each_worth_is_handed_over(self):
         for worth in (NONE, NOT, YES, number(1), text("a"), ("kind", "low"), thing(0), ("deed", "me"),
                       ("bound", "me", "low", thing(0)), ("gate", "me", None), ("gate", "me", "me")):
@@ -140,6 +127,9 @@ class Runs(Calls):
         self.gives(NONE, 400, "more")
         self.deed("most", ("deed", "some"), ("call", 0), *[("calm",)] * 27)
         self.ends(("tired", (("most", 29),)), 400, "most")
+        # So is the bound that is not told.
+        self.assertEqual(Plain(self.world).run("more"), (("gave", NONE), 400))
+        self.assertEqual(Plain(self.world).run("most"), (("tired", (("most", 29),)), 400))
 
     def test_what_was_done_before_it_was_tired_stays(self):
         self.deed("do", ("kind", "low"), push(NONE), ("write", "word"), push(NONE))
@@ -154,7 +144,7 @@ class Runs(Calls):
         self.assertEqual(self.run_it("do", (), 0)[0], (("tired", (("do", 0),)), 0))
 
 
-class OfDeeds(Calls):
+class OfDeeds(Kin):
     def test_a_deed(self):
         self.row_gives(number(1), ("deed", "me"), push(number(1)), ("call", 1), steps=2, looks=0)
         self.deed("none", push(YES))
@@ -200,7 +190,7 @@ class OfDeeds(Calls):
         self.row_falls("takes", ("deed", "mid"), ("call", 0), steps=2, within=(("mid", 1),))
 
 
-class Deep(Calls):
+class Deep(Case):
     def chain(self, many):
         """Deeds that call one another, so many, the last one gives."""
         self.deed("ca", push(YES))
@@ -209,7 +199,7 @@ class Deep(Calls):
         return "c" + "abcdefghijkl"[many - 1]
 
     def setUp(self):
-        Case.setUp(self)
+        super().setUp()
         self.world.kind("low")
 
     def test_twelve_calls(self):
@@ -241,8 +231,9 @@ class Deep(Calls):
         self.falls("takes", (("less", 15),) * 10 + (("less", 11),), 10 * 11 + 12, "less", (number(0),))
 
     def test_a_gate_an_operator_missing_size_truth(self):
-        for worth, word, row in ((("gate", "do", None), "go", ("read", "go")), (("deed", "do"), "missing", ("read", "go")),
-                                 (("deed", "do"), "size", ("size",)), (("deed", "do"), "truth", ("unless", 2))):
+        for worth, word, row in ((("gate", "do", None), "go", ("read", "go")),
+                                 (("deed", "do"), "missing", ("read", "go")), (("deed", "do"), "size", ("size",)),
+                                 (("deed", "do"), "truth", ("unless", 2))):
             self.setUp()
             self.world.thing("low")
             self.world.deed("do", giving(ME, row, *[push(NONE)] * (row[0] == "unless")), takes=("it", "word"),
@@ -274,7 +265,7 @@ class Deep(Calls):
         self.gives(thing(0), 12 * 8 + 11 * 4 + 3, "do", (number(0),), looks=1, changes=[("thing", "bare")])
 
 
-class OfKinds(Calls):
+class OfKinds(Kin):
     def test_a_thing_is_made_and_given(self):
         self.row_gives(thing(1), ("kind", "low"), ("call", 0), looks=2, changes=[("thing", "low")])
         self.row_gives(thing(1), ("kind", "other"), ("call", 0), looks=1, changes=[("thing", "other")])
@@ -359,7 +350,7 @@ class OfKinds(Calls):
         self.assertEqual((told, changes), ((("tired", (("do", 2),)), 4), [("thing", "low")]))
 
 
-class Looks(Calls):
+class Looks(Kin):
     def test_in_all_runs(self):
         self.deed("read", ME, ("read", "word"), takes=("it",))
         self.world.put("top", "word", NONE)

@@ -3,24 +3,18 @@
 import itertools
 import unittest
 
-from plains import NO, NONE, NOT, YES, Case, giving, number, push, text, thing
+from plains import NO, NONE, NOT, YES, Kin, giving, number, push, text, thing
 from swiftkin.plain import Plain
 
 BIG = 10 ** 9
 
 
-class Rows(Case):
-    """A world of kinds top, low below it, and other, with a thing of low and one of other."""
+class Rows(Kin):
+    """A thing of low, one of other, and deeds: me, two that gives the second that it takes, fall that falls."""
 
     def setUp(self):
         super().setUp()
-        world = self.world
-        world.kind("top")
-        world.kind("low", elders=("top",))
-        world.kind("other")
-        world.thing("low")
-        world.thing("other")
-        self.deed("me", ("get", "it"), takes=("it",))
+        self.world.thing("other")
         self.deed("two", ("get", "that"), takes=("it", "that"))
         self.deed("fall", ("get", "none"), takes=("it", "that"), worths=(NONE,))
 
@@ -71,6 +65,23 @@ class Simple(Rows):
     def test_give(self):
         self.row_gives(number(3), push(number(1)), push(number(2)), push(number(3)))
 
+    def test_what_lies_under_stays(self):
+        """Each row takes as many as it takes, and no more."""
+        self.world.put("low", "word", text("b"))
+        under, it = push(text("a")), ("get", "it")
+        for rows, gives in (
+            ((it, ("read", "word")), text("b")), ((push(text("b")), push(text("c")), ("add",)), text("bc")),
+            ((push(text("bc")), ("size",)), number(2)), ((("deed", "me"), push(text("b")), ("call", 1)), text("b")),
+            ((push(text("b")), push(text("b")), ("same",)), YES), ((push(text("c")), push(text("b")), ("less",)), NO),
+        ):
+            steps = 2 if rows[-1][0] == "call" else 0
+            self.row_gives(text("a"), under, *rows, ("let", "that"), steps=steps, **self.it(thing(0)))
+            self.row_gives(gives, under, *rows, ("let", "that"), ("let", "this"), ("get", "that"), steps=steps,
+                           **self.it(thing(0)))
+        for rows in ((it, push(NONE), ("write", "word")), (("kind", "low"), ("drop", "word")), (it, ("unless", 3)),
+                     (("kind", "low"), ("kind", "other"), ("elders", 1)), (("kind", "low"), ("elders", 0))):
+            self.row_gives(text("a"), under, *rows, **self.it(thing(0)))
+
     def test_stack_order(self):
         self.row_gives(text("ab"), push(text("a")), push(text("b")), ("add",))
         self.row_gives(YES, push(number(1)), push(number(2)), ("less",))
@@ -84,8 +95,9 @@ class Unless(Rows):
         self.gives(YES if true else NO, 4 + more.pop("steps", 0), "is", (worth,), **more)
 
     def test_what_is_true(self):
-        for worth in (YES, number(1), number(-1), number(BIG), text("a"), text(" "), ("kind", "top"), ("deed", "me"),
-                      ("bound", "me", "top", NONE), ("gate", "me", None), ("gate", "me", "two")):
+        for worth in (YES, number(1), number(-1), number(BIG), text("a"), text(" "), text("none"), text("not"),
+                      ("kind", "top"), ("deed", "me"), ("bound", "me", "top", NONE), ("gate", "me", None),
+                      ("gate", "me", "two")):
             self.setUp()
             self.truth(worth, True, looks=0)
 

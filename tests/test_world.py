@@ -3,7 +3,7 @@
 import unittest
 
 from swiftkin import world as module
-from swiftkin.errors import NoChange, NoLine, Round
+from swiftkin.errors import NoChange, NoKind, NoLine, Round
 from swiftkin.world import World, world_of
 from worlds import GIVE, Case, full_world, snapshot
 
@@ -251,6 +251,13 @@ class Versions(Case):
         self.assertEqual(versions(world), [2, 7])
 
 
+    def test_versions_that_were_never_given(self):
+        # The document promises nothing of these; the program refuses them.
+        world = diamond()
+        for version in (-1, 4, 10 ** 20, None, True, False, "0", [], (0,)):
+            self.refused(NoKind, world, lambda: world.picture(version))
+
+
 class Logs(Case):
     def test_each_change(self):
         world = World()
@@ -284,7 +291,8 @@ class Logs(Case):
         for number in range(len(log) + 1):
             for wrong in (None, True, 0, "", [], (), ("kind",), ("name", "aa"), ("kind", "zz"), ("put", "aa", "wa"),
                           ("thing", "zz"), list(log[0]), (["kind"], "zz", ()), (None, "zz", ()), log[0] + ((),),
-                          ("len",), ("kind", "zz", []), ("kind", "zz", None), ("turn", "aa", []), ("turn", "aa", ["ab"]),
+                          ("len",), ("kind", "zz", []), ("kind", "zz", None), ("turn", "aa", []),
+                          ("turn", "aa", ["ab"]),
                           ("deed", "zz", GIVE, [], ()), ("deed", "zz", GIVE, (), []), ("deed", "zz", None, (), ()),
                           ("deed", "zz", GIVE, ()), ("out", "aa", "zz"), ("lay", 1, "word", ONE), ("lift", 0, "zz"),
                           ("lay", False, "word", ONE), ("turn", "zz", ()), ("thing", "aa", ()), ("thing",)):

@@ -98,7 +98,7 @@ def _unless(run, frame, row):
 
 
 def _calm(run, frame, row):
-    pass
+    run.looker.calm()
 
 
 def _give(run, frame, row):

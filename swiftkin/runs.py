@@ -18,6 +18,7 @@ def run_deed(world, looker, deed, arguments, most):
     if not world.is_deed(deed):
         raise NoDeed("no deed")
     need_given(world, arguments, most)
+    looker.begin()
     run = Run(world, looker, most)
     end = run.ended(deed, arguments)
     return (end, run.steps)
@@ -33,22 +34,31 @@ def need_given(world, arguments, most):
         raise NoSteps("no bound of steps")
 
 
-class Frame:
-    """A call under way: the row that it is at, its stack, and what its locals are."""
+def need_takes(takes, worths, many):
+    """Fall where what takes these, the last ones with worths, can't take so many arguments."""
+    if not len(takes) - len(worths) <= many <= len(takes):
+        raise Fall("takes")
 
-    def __init__(self, name, code, known, home):
+
+def known_by(takes, worths, given):
+    """Tell the locals that a call begins with, those left out by the last of the worths."""
+    missing = len(takes) - len(given)
+    return dict(zip(takes, given + worths[len(worths) - missing:]))
+
+
+class Frame:
+    """A call under way: what it is at, its stack, and what its locals are."""
+
+    def __init__(self, name, known, home):
         self.name = name
-        self.code = code
         self.known = known
         self.home = home
         self.stack = []
+        # The number of the row that it is at, or the place of the node, and this row.
         self.at = 0
+        self.row = None
         self.after = 0
         self.gave = None
-
-    def row(self):
-        """Tell the row that the call is at."""
-        return self.code[0][self.at]
 
     def taken(self, many):
         """Take so many off the stack, and tell them, the upper one last."""
@@ -56,11 +66,9 @@ class Frame:
         del self.stack[-many:]
         return worths
 
-    def catch(self, guard, word):
-        """Go on behind a fall as this guard says."""
-        del self.stack[guard[3]:]
-        self.stack.append(("text", word))
-        self.at = guard[2]
+    def cut(self, height):
+        """Leave no more than so many on the stack."""
+        del self.stack[height:]
 
 
 class Run:
@@ -78,22 +86,56 @@ class Run:
         try:
             worth = self.call_deed(deed, arguments, None)
         except Fall as fall:
-            return ("fell", fall.word, self._trail())
+            return ("fell", fall.word, self.trail())
         except Tired:
-            return ("tired", self._trail())
+            return ("tired", self.trail())
         return ("gave", worth)
 
     def frame(self):
         """Tell the innermost call."""
         return self._frames[-1]
 
+    def enter(self, frame):
+        """Begin this call within the others, and tell how many are under way then."""
+        self._frames.append(frame)
+        return len(self._frames)
+
+    def leave(self):
+        """End the innermost call."""
+        self._frames.pop()
+
+    def end_within(self, depth):
+        """End all calls but the outermost ones, so many of them."""
+        del self._frames[depth:]
+
+    def count_step(self):
+        """Count a step that is begun, if the bound lets it."""
+        if self.steps >= self._most:
+            raise Tired()
+        self.steps += 1
+
+    def do(self, frame, row):
+        """Do what this row does in the innermost call."""
+        frame.row = row
+        action = ACTIONS[row[0]]
+        action(self, frame, row)
+
+    def trail(self):
+        """Tell each call under way with what it is at, the outermost first."""
+        return tuple([(frame.name, frame.at) for frame in self._frames])
+
     def kind_of(self, thing):
         """Tell the kind of this thing."""
         return self.world.kind_of(thing[1])
 
+    def place_of(self, number):
+        """Tell the place of the look of this number of the row that the innermost call is at."""
+        frame = self.frame()
+        return (frame.name, frame.at, number)
+
     def look(self, number, kind):
-        """Make the look of this number of the row that the innermost call is at, in a kind."""
-        return self.looker.in_kind(kind, place_word(self.frame().row(), number))
+        """Look in a kind for the word that the look of this number of the row is for, not the row's own."""
+        return self.looker.by_word(self.place_of(number), kind, place_word(self.frame().row, number))
 
     def call_worth(self, worth, given):
         """Call this worth, and tell what the call gives."""
@@ -112,7 +154,7 @@ class Run:
     def call_deed(self, name, given, home):
         """Call a deed, found in this home or in none."""
         self._need_depth()
-        self._need_takes(name, len(given))
+        self._need_taken(name, len(given))
         return self._done(name, given, home)
 
     def _call_kind(self, kind, given):
@@ -123,7 +165,7 @@ class Run:
         if self.world.is_full():
             raise Fall("full")
         if is_deed(begin):
-            self._need_takes(begin[1][1], len(given) + 1)
+            self._need_taken(begin[1][1], len(given) + 1)
         elif given:
             raise Fall("takes")
         thing = ("thing", self.world.thing(kind))
@@ -136,45 +178,35 @@ class Run:
         if len(self._frames) >= MOST_CALLS:
             raise Fall("deep")
 
-    def _need_takes(self, name, many):
+    def _need_taken(self, name, many):
         """Fall where a deed can't take so many arguments."""
         _, takes, worths = self.world.deed_parts(name)
-        if not len(takes) - len(worths) <= many <= len(takes):
-            raise Fall("takes")
+        need_takes(takes, worths, many)
 
     def _done(self, name, given, home):
         """Do a call that can be made, row by row, and tell what it gives."""
         code, takes, worths = self.world.deed_parts(name)
-        missing = len(takes) - len(given)
-        known = dict(zip(takes, given + worths[len(worths) - missing:]))
-        frame = Frame(name, code, known, home)
-        self._frames.append(frame)
-        depth = len(self._frames)
+        frame = Frame(name, known_by(takes, worths, given), home)
+        depth = self.enter(frame)
         while frame.gave is None:
             try:
-                self._step(frame)
+                self._step(frame, code[0])
             except Fall as fall:
                 guard = first_guard(code, frame.at)
                 if guard is None:
                     raise
                 # Calls within that fell stand until here, so that a fall that
                 # nothing catches has its trail.
-                del self._frames[depth:]
-                frame.catch(guard, fall.word)
-        self._frames.pop()
+                self.end_within(depth)
+                frame.cut(guard[3])
+                frame.stack.append(("text", fall.word))
+                frame.at = guard[2]
+        self.leave()
         return frame.gave
 
-    def _step(self, frame):
+    def _step(self, frame, rows):
         """Begin the row that a call is at, and do it."""
-        if self.steps >= self._most:
-            raise Tired()
-        self.steps += 1
-        row = frame.row()
+        self.count_step()
         frame.after = frame.at + 1
-        action = ACTIONS[row[0]]
-        action(self, frame, row)
+        self.do(frame, rows[frame.at])
         frame.at = frame.after
-
-    def _trail(self):
-        """Tell each call under way with the row that it is at, the outermost first."""
-        return tuple([(frame.name, frame.at) for frame in self._frames])

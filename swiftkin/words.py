@@ -9,7 +9,7 @@ def read(run, asked, word):
     """Tell the worth that a word of this one has."""
     if asked[0] == "thing":
         return _read_of_thing(run, asked, word)
-    found = run.look(0, asked[1]) if asked[0] == "kind" else None
+    found = run.looker.read_kind(run.place_of(0), asked[1], word) if asked[0] == "kind" else None
     if found is None:
         raise Fall("noword")
     return found[1]
@@ -20,7 +20,7 @@ def above(run, asked, word):
     home = run.frame().home
     if asked[0] != "thing" or home not in run.world.line(run.kind_of(asked)):
         raise Fall("nohome")
-    found = run.looker.behind(run.kind_of(asked), home, word)
+    found = run.looker.behind(run.place_of(0), asked[1], home, word)
     if found is None:
         raise Fall("noword")
     return _told_by(run, asked, found)
@@ -48,11 +48,9 @@ def drop(run, asked, word):
 
 def _read_of_thing(run, asked, word):
     """Tell the worth that a word of this thing has."""
-    found = run.look(0, run.kind_of(asked))
-    if not is_writer(found):
-        own = run.looker.in_thing(asked[1], word)
-        if own is not None:
-            return own
+    found, own = run.looker.read_thing(run.place_of(0), asked[1], word)
+    if own is not None:
+        return own
     if found is not None:
         return _told_by(run, asked, found)
     missing = run.look(1, run.kind_of(asked))
@@ -71,12 +69,11 @@ def _told_by(run, asked, found):
 
 def _write_of_thing(run, asked, word, worth):
     """Give a word of this thing this worth, or hand both to the gate that writes."""
-    found = run.look(0, run.kind_of(asked))
+    found = run.looker.write_thing(run.place_of(0), asked[1], word)
     if is_writer(found):
         home, gate = found
         run.call_deed(gate[2], (asked, worth), home)
         return
-    run.looker.in_thing(asked[1], word)
     try:
         run.world.lay(asked[1], word, worth)
     except Full:

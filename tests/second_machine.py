@@ -1,6 +1,7 @@
 """A second machine, by the words of [12] to [18], over a second world.
 
 It calls nothing within a call: what is to be done when a call gives waits in a list.
+Each look is noted, with its place, for who wants to tell what a quick machine makes of it.
 """
 
 from second_world import Refused
@@ -21,9 +22,11 @@ class SecondMachine:
     def __init__(self, world):
         self.world = world
         self.looks = 0
+        self.notes = []
 
     def run(self, deed, arguments, most):
         self.calls, self.steps, self.end = [], 0, None
+        self.notes = []
         try:
             self.enter(deed, arguments, None, self.finish)
         except Falls as fall:
@@ -82,7 +85,7 @@ class SecondMachine:
         elif worth[0] == "bound":
             self.enter(worth[1], (worth[3],) + arguments, worth[2], then)
         elif worth[0] == "kind":
-            begin = self.look(worth[1], "begin")
+            begin = self.look(worth[1], "begin", 0)
             if not deed(begin):
                 if len(self.world.kind_of) == 60:
                     raise Falls("full")
@@ -106,15 +109,41 @@ class SecondMachine:
 
     # Looks.
 
-    def look(self, kind, word, home=None):
-        line = self.world.line(kind)
-        line = line[line.index(home) + 1:] if home else line
-        for name in line:
-            self.looks += 1
+    def first(self, kinds, word):
+        """Tell what is found, and how many tables were looked at."""
+        for many, name in enumerate(kinds, 1):
             for other, worth in self.world.words(name):
                 if other == word:
-                    return (name, worth)
-        return None
+                    return (name, worth), many
+        return None, len(kinds)
+
+    def note(self, number, lets, guard, found, asked, others):
+        """Note a look of this number (None of a drop) of the row that is at.
+
+        lets: the guards that would let it by; guard: its own, or None; asked: what an answer
+        may serve, (version, word, tables), or None; others: the tables that none serves.
+        """
+        call = self.calls[-1]
+        place = None if number is None else (call.deed, call.at, number)
+        self.looks += others + (asked[2] if asked else 0)
+        self.notes.append((place, lets, guard, found, asked, others))
+
+    def look(self, kind, word, number):
+        """Look for missing, begin, or a word of an operator."""
+        found, tables = self.first(self.world.line(kind), word)
+        guard = ("word", self.world.version(kind))
+        self.note(number, [guard], guard, found, (guard[1], word, tables), 0)
+        return found
+
+    def look_of_thing(self, x, word, is_write):
+        """Look for the word of a thing that is read or written, at its own table, too, if need be."""
+        found, tables = self.first(self.world.line(self.kind(x)), word)
+        version, shape = self.world.version(self.kind(x)), tuple(self.world.shape(x[1]))
+        guard = ("thing", version) if writer(found) else ("thing", version, shape)
+        told = is_write or found is not None or word in shape
+        self.note(0, [("thing", version), ("thing", version, shape)], guard if told else None, found,
+                  (version, word, tables), 0 if writer(found) else 1)
+        return found
 
     def kind(self, thing):
         return self.world.kind_of[thing[1]]
@@ -154,6 +183,7 @@ class SecondMachine:
         self.on(call)
 
     def row_calm(self, call):
+        self.notes.append("calm")
         self.on(call)
 
     def row_jump(self, call, r):
@@ -177,21 +207,22 @@ class SecondMachine:
         if x[0] not in ("thing", "kind"):
             raise Falls("noword")
         if x[0] == "kind":
-            found = self.look(x[1], word)
+            found, tables = self.first(self.world.line(x[1]), word)
+            guard = ("kind", self.world.version(x[1]))
+            self.note(0, [guard], guard if found else None, found, (guard[1], word, tables), 0)
             if found is None:
                 raise Falls("noword")
             self.on(call, found[1])
             return
-        found = self.look(self.kind(x), word)
+        found = self.look_of_thing(x, word, False)
         if not writer(found):
-            self.looks += 1
             if word in self.world.shape(x[1]):
                 self.on(call, dict(self.world.own(x[1]))[word])
                 return
         if found is not None:
             self.by(call, x, found)
             return
-        missing = self.look(self.kind(x), "missing")
+        missing = self.look(self.kind(x), "missing", 1)
         if not deed(missing):
             raise Falls("noword")
         self.enter_found(missing, (x, ("text", word)), lambda worth: self.on(call, worth))
@@ -207,7 +238,10 @@ class SecondMachine:
         x = call.stack.pop()
         if call.home is None or x[0] != "thing" or call.home not in self.world.line(self.kind(x)):
             raise Falls("nohome")
-        found = self.look(self.kind(x), word, call.home)
+        line = self.world.line(self.kind(x))
+        found, tables = self.first(line[line.index(call.home) + 1:], word)
+        guard = ("above", self.world.version(self.kind(x)), call.home)
+        self.note(0, [guard], guard if found else None, found, None, tables)
         if found is None:
             raise Falls("noword")
         self.by(call, x, found)
@@ -217,11 +251,10 @@ class SecondMachine:
         if x[0] == "kind":
             self.change("full", ("put", x[1], word, y))
         elif x[0] == "thing":
-            found = self.look(self.kind(x), word)
+            found = self.look_of_thing(x, word, True)
             if writer(found):
                 self.enter(found[1][2], (x, y), found[0], lambda _: self.on(call))
                 return
-            self.looks += 1
             self.change("full", ("lay", x[1], word, y))
         else:
             raise Falls("noword")
@@ -232,7 +265,9 @@ class SecondMachine:
         if x[0] == "kind":
             self.change("noword", ("out", x[1], word))
         elif x[0] == "thing":
-            if writer(self.look(self.kind(x), word)):
+            found, tables = self.first(self.world.line(self.kind(x)), word)
+            self.note(None, [], None, found, (self.world.version(self.kind(x)), word, tables), 0)
+            if writer(found):
                 raise Falls("shut")
             self.change("noword", ("lift", x[1], word))
         else:
@@ -295,21 +330,21 @@ class SecondMachine:
         things = x[0] == y[0] == "thing"
         ahead, first = "not looked for", "left"
         if things and self.kind(x) != self.kind(y) and self.kind(x) in self.world.line(self.kind(y)):
-            ahead = self.look(self.kind(y), turned)
+            ahead = self.look(self.kind(y), turned, 1)
             if deed(ahead):
-                left = self.look(self.kind(x), turned)
+                left = self.look(self.kind(x), turned, 2)
                 if not deed(left) or left[0] != ahead[0]:
                     first = "right"
 
         def ask_left(then):
-            found = self.look(self.kind(x), word) if x[0] == "thing" else None
+            found = self.look(self.kind(x), word, 0) if x[0] == "thing" else None
             self.ask(call, found, (x, y), then)
 
         def ask_right(then):
             if y[0] != "thing" or (things and self.kind(x) == self.kind(y)):
                 then()
                 return
-            found = self.look(self.kind(y), turned) if ahead == "not looked for" else ahead
+            found = self.look(self.kind(y), turned, 1) if ahead == "not looked for" else ahead
             self.ask(call, found, (y, x), then)
 
         if first == "left":
@@ -328,7 +363,7 @@ class SecondMachine:
         if x[0] == "text":
             self.on(call, ("number", len(x[1])))
             return
-        found = self.look(self.kind(x), "size") if x[0] == "thing" else None
+        found = self.look(self.kind(x), "size", 0) if x[0] == "thing" else None
         if not deed(found):
             raise Falls("nosize")
         self.enter_found(found, (x,), lambda worth: self.on(call, self.size(worth)))
@@ -349,11 +384,11 @@ class SecondMachine:
             if worth[0] != "truth":
                 raise Falls("badtruth")
             told(worth[1])
-        found = self.look(self.kind(x), "truth")
+        found = self.look(self.kind(x), "truth", 0)
         if deed(found):
             self.enter_found(found, (x,), by_truth)
             return
-        found = self.look(self.kind(x), "size")
+        found = self.look(self.kind(x), "size", 1)
         if deed(found):
             self.enter_found(found, (x,), lambda worth: told(self.size(worth)[1] > 0))
         else:
